@@ -1,0 +1,1 @@
+"""Bendwright: programs of straight pieces, with branches that may jump and turns."""
