@@ -2,15 +2,13 @@
 
 from bendwright.errors import BadPlaces
 from bendwright.programs import check_program
-from bendwright.shares import is_number, order_of, product_of, sum_of
+from bendwright.shares import are_numbers, order_of, product_of, sum_of
 
 
 def check_places(program, places):
     """Refuse what is no list of a number for each input of the program."""
-    if not isinstance(places, list) or len(places) != program[0]:
+    if not are_numbers(places, program[0]):
         raise BadPlaces("places are a list of a number for each input")
-    if not all([is_number(place) for place in places]):
-        raise BadPlaces("each place is a number")
 
 
 def anew(number):

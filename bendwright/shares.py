@@ -29,6 +29,11 @@ def is_number(value):
     return common(above, below) == 1
 
 
+def are_numbers(value, many):
+    """Whether it is a list of so many numbers."""
+    return isinstance(value, list) and len(value) == many and all([is_number(part) for part in value])
+
+
 def check_numbers(one, other):
     """Refuse two values that aren't both numbers."""
     if not is_number(one) or not is_number(other):

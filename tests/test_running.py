@@ -6,8 +6,8 @@ import unittest
 from fractions import Fraction
 
 from bendwright.errors import BadPlaces, BadProgram
-from bendwright.programs import size
 from bendwright.running import worth, worths
+from tests.reckoning import frac, pair, reckoned, some_program
 from tests.wrong import NOT_NUMBERS, NOT_WHOLE
 
 IN = ("in", 0)
@@ -17,68 +17,6 @@ SPOTS = [
     (0, 1), (1, 1), (-1, 1), (1, 2), (-1, 2), (1, 1000), (-1, 1000), (7, 3), (-7, 3), (10 ** 20, 1),
     (-(10 ** 20), 3), (1, HUGE), (-1, HUGE), (HUGE + 1, HUGE), (-HUGE, 1),
 ]
-
-
-def frac(number):
-    return Fraction(number[0], number[1])
-
-
-def pair(fraction):
-    return (fraction.numerator, fraction.denominator)
-
-
-def reckoned(steps, places):
-    """The worths of the steps, by fractions, apart from the program under test."""
-    told = []
-    for step in steps:
-        word, parts = step[0], step[1:]
-        if word == "is":
-            told.append(frac(parts[0]))
-        elif word == "in":
-            told.append(places[parts[0]])
-        elif word == "sum":
-            told.append(told[parts[0]] + told[parts[1]])
-        elif word == "by":
-            told.append(frac(parts[0]) * told[parts[1]])
-        elif word == "least":
-            told.append(min(told[parts[0]], told[parts[1]]))
-        elif word == "most":
-            told.append(max(told[parts[0]], told[parts[1]]))
-        elif word == "if":
-            told.append(told[parts[1]] if told[parts[0]] <= 0 else told[parts[2]])
-        else:
-            here = told[parts[1]]
-            for turn in range(parts[0]):
-                here = reckoned(parts[2], [here])[-1]
-            told.append(here)
-    return told
-
-
-def some_number(chance):
-    return pair(Fraction(chance.randint(-9, 9), chance.randint(1, 6)))
-
-
-def some_steps(chance, inputs, many, turning):
-    """Steps drawn at random, turns among them if they may be."""
-    steps = [("in", chance.randrange(inputs))]
-    words = ["is", "in", "sum", "by", "by", "sum", "least", "most", "if"] + ["turns"] * turning
-    for at in range(1, many):
-        word = chance.choice(words)
-        back = [chance.randrange(at) for k in range(3)]
-        if word == "is":
-            steps.append(("is", some_number(chance)))
-        elif word == "in":
-            steps.append(("in", chance.randrange(inputs)))
-        elif word == "by":
-            steps.append(("by", some_number(chance), back[0]))
-        elif word == "if":
-            steps.append(("if", back[0], back[1], back[2]))
-        elif word == "turns":
-            body = some_steps(chance, 1, chance.randint(1, 4), 0)
-            steps.append(("turns", chance.randint(0, 6), back[0], body))
-        else:
-            steps.append((word, back[0], back[1]))
-    return steps
 
 
 class Checked(unittest.TestCase):
@@ -170,16 +108,10 @@ class TestMany(Checked):
 
     def test_programs_drawn_at_random(self):
         chance = random.Random(5)
-        seen = 0
-        while seen < 1200:
+        for turn in range(1200):
             inputs = chance.randint(1, 3)
-            program = (inputs, some_steps(chance, inputs, chance.randint(1, 14), 1))
-            try:
-                size(program)
-            except BadProgram:
-                continue
-            seen += 1
-            for turn in range(3):
+            program = some_program(chance, inputs, chance.randint(1, 14), 1)
+            for spot in range(3):
                 places = [pair(Fraction(chance.randint(-6, 6), chance.randint(1, 4))) for k in range(inputs)]
                 wanted = reckoned(program[1], [frac(place) for place in places])
                 self.same(program, places, [pair(number) for number in wanted])
