@@ -1,7 +1,7 @@
 """Two pictures over one stretch put together and compared."""
 
 from bendwright.errors import Others
-from bendwright.pictures import Picture, check_picture, is_within, tidied, worth_within
+from bendwright.pictures import Picture, check_picture, is_within, tidied, width_of, worth_within
 from bendwright.pieces import greater_piece, lesser_piece, moved, passing, piece_gap, piece_sum, worth_behind
 from bendwright.running import anew, greater_of, lesser_of
 from bendwright.shares import gap_of, order_of, product_of, sum_of
@@ -87,7 +87,7 @@ def crossings(one, other):
     found = []
     for at, place in enumerate(one.places[:-1]):
         far = passing(piece_gap(one.pieces[at], other.pieces[at]))
-        if far is not None and order_of(far, gap_of(one.places[at + 1], place)) < 0:
+        if far is not None and order_of(far, width_of(one, at)) < 0:
             found.append(sum_of(place, far))
     return found
 
@@ -141,8 +141,7 @@ def parting(one, other):
         if left.worths[at] != right.worths[at]:
             return anew(place)
         if left.pieces[at:at + 1] != right.pieces[at:at + 1]:
-            width = gap_of(left.places[at + 1], place)
-            return parting_within(place, width, piece_gap(left.pieces[at], right.pieces[at]))
+            return parting_within(place, width_of(left, at), piece_gap(left.pieces[at], right.pieces[at]))
     return None
 
 

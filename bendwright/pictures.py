@@ -72,10 +72,14 @@ def piece_anew(piece):
     return (anew(piece[0]), anew(piece[1]))
 
 
+def width_of(picture, at):
+    """How wide the piece with that count is."""
+    return gap_of(picture.places[at + 1], picture.places[at])
+
+
 def is_needed(picture, at):
     """Whether a place that is no end is more than where the piece ahead of it goes on."""
-    width = gap_of(picture.places[at], picture.places[at - 1])
-    ongoing = moved(picture.pieces[at - 1], width)
+    ongoing = moved(picture.pieces[at - 1], width_of(picture, at - 1))
     return picture.worths[at] != ongoing[0] or picture.pieces[at] != ongoing
 
 
@@ -136,8 +140,7 @@ def below_place(picture, at):
     """What the picture comes to from below at the place with that count, None at the first one."""
     if at == 0:
         return None
-    width = gap_of(picture.places[at], picture.places[at - 1])
-    return piece_anew(moved(picture.pieces[at - 1], width))
+    return piece_anew(moved(picture.pieces[at - 1], width_of(picture, at - 1)))
 
 
 def above_place(picture, at):
@@ -147,16 +150,21 @@ def above_place(picture, at):
     return piece_anew(picture.pieces[at])
 
 
-def limits(picture, place):
-    """What the picture comes to at the place from below and from above, each with the slope there."""
-    check_picture(picture)
-    check_place(picture, place)
+def limits_within(picture, place):
+    """What the picture comes to at a place of its stretch from below and from above, unchecked."""
     at = last_up_to(picture, place)
     far = gap_of(place, picture.places[at])
     if far[0] == 0:
         return (below_place(picture, at), above_place(picture, at))
     within = moved(picture.pieces[at], far)
     return (piece_anew(within), piece_anew(within))
+
+
+def limits(picture, place):
+    """What the picture comes to at the place from below and from above, each with the slope there."""
+    check_picture(picture)
+    check_place(picture, place)
+    return limits_within(picture, place)
 
 
 def tidy(picture):

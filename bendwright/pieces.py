@@ -1,4 +1,9 @@
-"""Pieces: pairs of the worth just beyond a place and the slope from there on."""
+"""Pieces: tuples of the worth just beyond a place and the slope from there on.
+
+A piece may be longer: what its first numbers leave undecided, 0, its last two
+decide. So pieces from a place along ways that turn begin with the worth just
+beyond the place, and end with the slope along the ways and how that changes.
+"""
 
 from bendwright.shares import gap_of, product_of, share_of, sum_of
 
@@ -15,23 +20,25 @@ def moved(piece, far):
 
 def piece_sum(one, other):
     """Two pieces from one place put together."""
-    return (sum_of(one[0], other[0]), sum_of(one[1], other[1]))
+    return tuple([sum_of(left, right) for left, right in zip(one, other)])
 
 
 def piece_gap(one, other):
     """The first piece less the second one, both from one place."""
-    return (gap_of(one[0], other[0]), gap_of(one[1], other[1]))
+    return tuple([gap_of(left, right) for left, right in zip(one, other)])
 
 
 def piece_product(number, piece):
     """A piece so many times."""
-    return (product_of(number, piece[0]), product_of(number, piece[1]))
+    return tuple([product_of(number, part) for part in piece])
 
 
 def is_above(piece):
     """Whether a piece is above 0 just beyond its place; one that begins at 0 is where its slope leads."""
-    worth, slope = piece
-    return worth[0] > 0 or (worth[0] == 0 and slope[0] > 0)
+    for part in piece:
+        if part[0] != 0:
+            return part[0] > 0
+    return False
 
 
 def lesser_piece(one, other):
@@ -46,7 +53,7 @@ def greater_piece(one, other):
 
 def passing(piece):
     """How far behind its place a piece passes through 0, None if it doesn't."""
-    worth, slope = piece
-    if worth[0] * slope[0] >= 0:
+    *first, worth, slope = piece
+    if any([part[0] != 0 for part in first]) or worth[0] * slope[0] >= 0:
         return None
     return share_of(worth, (-slope[0], slope[1]))

@@ -50,22 +50,31 @@ def reduced(above, below):
 
 def sum_of(one, other):
     """Two numbers put together, unchecked."""
-    return reduced(one[0] * other[1] + other[0] * one[1], one[1] * other[1])
+    # What goes into both lower parts is taken out first: long numbers are slow to reduce.
+    shared = common(one[1], other[1])
+    part = one[1] // shared
+    above = one[0] * (other[1] // shared) + other[0] * part
+    left = common(above, shared)
+    return (above // left, part * (other[1] // left))
 
 
 def gap_of(one, other):
     """The first number less the second one, unchecked."""
-    return reduced(one[0] * other[1] - other[0] * one[1], one[1] * other[1])
+    return sum_of(one, (-other[0], other[1]))
 
 
 def product_of(one, other):
     """One number times the other, unchecked."""
-    return reduced(one[0] * other[0], one[1] * other[1])
+    # Each upper part shares nothing with its own lower one, so only with the other's.
+    left = common(one[0], other[1])
+    right = common(other[0], one[1])
+    return ((one[0] // left) * (other[0] // right), (one[1] // right) * (other[1] // left))
 
 
 def share_of(one, other):
     """The first number by the second one, which isn't 0, unchecked."""
-    return reduced(one[0] * other[1], one[1] * other[0])
+    above, below = other
+    return product_of(one, (below, above) if above > 0 else (-below, -above))
 
 
 def order_of(one, other):

@@ -48,6 +48,16 @@ def nearer(one, other):
     return lesser_of(one, other)
 
 
+def starts_of(places, ways):
+    """The pieces of the inputs from the places along the ways, new throughout."""
+    return [(anew(place), anew(way)) for place, way in zip(places, ways)]
+
+
+def level_piece(number, like):
+    """The piece of a number that stays, as long as another piece."""
+    return (anew(number), *[(0, 1) for part in like[1:]])
+
+
 def turned_piece(many, start, body):
     """The piece of a body done so many times, and how far it holds."""
     piece = start
@@ -62,7 +72,7 @@ def step_piece(step, starts, ahead):
     """The piece of a step, by those of the inputs and of the steps ahead, and how far its own choices hold."""
     word = step[0]
     if word == "is":
-        return ((anew(step[1]), (0, 1)), None)
+        return (level_piece(step[1], starts[0]), None)
     if word == "in":
         return (starts[step[1]], None)
     if word == "by":
@@ -113,6 +123,6 @@ def side(program, places, ways):
     check_places(program, places)
     check_ways(program, ways)
     steps = program[1]
-    starts = [(anew(place), anew(way)) for place, way in zip(places, ways)]
+    starts = starts_of(places, ways)
     piece, reach = straight(steps, starts)
     return Side(run(steps, places)[-1], piece[0], piece[1], held(steps, starts, piece, reach))

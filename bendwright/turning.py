@@ -38,12 +38,12 @@ def steps_anew(steps):
     return [step_anew(step, themselves) for step in steps]
 
 
-def put_behind(told, steps, start):
-    """Put steps of one input behind those told, one of which is their input; the count of what has their worth."""
+def put_behind(told, steps, starts):
+    """Put steps behind those told, the counts of their inputs handed in; the count of what has their worth."""
     stands = []
     for step in steps:
         if step[0] == "in":
-            stands.append(start)
+            stands.append(starts[step[1]])
         else:
             told.append(step_anew(step, stands))
             stands.append(len(told) - 1)
@@ -54,7 +54,7 @@ def put_turns(told, many, start, body):
     """Put a body so many times behind the steps told; the count of what has the worth at last."""
     reached = start
     for turn in range(many):
-        reached = put_behind(told, body, reached)
+        reached = put_behind(told, body, [reached])
     return reached
 
 
@@ -119,13 +119,12 @@ def behind(outer, inner):
     if outer_choices + inner_choices > MOST_CHOICES:
         raise BadProgram("too many least, most and if steps run in both together")
     told = steps_anew(inner[1])
-    last = put_behind(told, outer[1], len(told) - 1)
+    last = put_behind(told, outer[1], [len(told) - 1])
     return (inner[0], told[:last + 1])
 
 
 def check_stirring(program, at):
-    """Refuse a program and the count of a step that can't be stirred."""
-    check_program(program)
+    """Refuse what is no count of a step of the program, and a program that can't be stirred."""
     inputs, steps = program
     if not is_count(at, len(steps)):
         raise BadStep("no step has that count")
@@ -137,6 +136,7 @@ def check_stirring(program, at):
 
 def stirred(program, at):
     """The program with one more input that is added to the worth of the step."""
+    check_program(program)
     check_stirring(program, at)
     inputs, steps = program
     told = []

@@ -54,3 +54,45 @@ def some_picture(chance, low=-3, high=3):
         ongoing = frac(pieces[-1][0]) + frac(pieces[-1][1]) * wide
         worths.append(pair(ongoing) if chance.random() < 0.7 else pair(chance.randint(-2, 2)))
     return Picture(places, worths, pieces)
+
+
+def cells(told, values=()):
+    """Places of a picture, those at which its pieces have one of the values, and one between each two, rising."""
+    found = {frac(place) for place in told.places}
+    for at, (worth, slope) in enumerate(told.pieces):
+        for value in values:
+            if slope[0] != 0:
+                place = frac(told.places[at]) + (frac(value) - frac(worth)) / frac(slope)
+                if frac(told.places[at]) < place < frac(told.places[at + 1]):
+                    found.add(place)
+    found = sorted(found)
+    return sorted(found + [(low + high) / 2 for low, high in zip(found, found[1:])])
+
+
+def limit_at(told, place, way):
+    """What a picture comes to at a place from above, or from below if the way is -1, and the slope; None at an end."""
+    ends = [frac(told.places[0]), frac(told.places[-1])]
+    if place == ends[way > 0]:
+        return None
+    beside = min(abs(frac(other) - place) for other in told.places if frac(other) != place) / 4
+    near, far = told_at(told, place + way * beside), told_at(told, place + 2 * way * beside)
+    return (2 * near - far, (far - near) / beside * way)
+
+
+def stretched(places, worths):
+    """The picture without jumps that goes straight from each worth to the next."""
+    slopes = [(frac(high) - frac(low)) / (frac(there) - frac(here))
+              for here, there, low, high in zip(places, places[1:], worths, worths[1:])]
+    return Picture(places, worths, [(worth, pair(slope)) for worth, slope in zip(worths, slopes)])
+
+
+def unbroken_picture(chance, steps):
+    """A picture without jumps, each worth one of the steps more than the one ahead."""
+    places, worths = [Fraction(chance.randint(-4, 4), 2)], [Fraction(chance.randint(-2, 2))]
+    slope = Fraction(1)
+    for turn in range(chance.randint(1, 7)):
+        places.append(places[-1] + Fraction(chance.randint(1, 4), 2))
+        # Often it goes on, so that the place ahead isn't needed.
+        slope = slope if chance.random() < 0.3 else Fraction(chance.choice(steps), chance.choice([1, 1, 3]))
+        worths.append(worths[-1] + slope * (places[-1] - places[-2]))
+    return stretched([pair(place) for place in places], [pair(worth) for worth in worths])

@@ -1,4 +1,4 @@
-"""The names, arguments and classes of the interface, as far as they have landed."""
+"""The names, arguments and classes of the interface."""
 
 import importlib
 import inspect
@@ -21,6 +21,13 @@ FUNCTIONS = {
         "mirrored": "picture", "scaled": "picture number",
     },
     "mixing": {"together": "one other", "lesser": "one other", "greater": "one other", "compared": "one other"},
+    "finding": {
+        "least": "picture", "greatest": "picture", "area": "picture", "rising": "picture", "jumps": "picture",
+        "spans": "picture value", "backwards": "picture",
+    },
+    "slopes": {"slope_at": "program place", "flat": "program places"},
+    "resting": {"marks": "program", "descent": "picture place", "rests": "picture place"},
+    "tuning": {"carried": "program places ways", "tuned": "program places at low high number"},
 }
 
 CLASSES = {
@@ -31,7 +38,25 @@ CLASSES = {
         "Alike": ("", {"shows": "self one other"}),
         "Differ": ("place", {"shows": "self one other"}),
     },
+    "finding": {
+        "Reached": ("value place", {}),
+        "Near": ("value place up", {}),
+        "Rising": ("", {"shows": "self picture"}),
+        "Falls": ("one other", {"shows": "self picture"}),
+    },
+    "slopes": {
+        "Smooth": ("slope", {}),
+        "Bent": ("below above", {}),
+        "Jumps": ("below value above", {}),
+        "Flat": ("slopes", {"shows": "self program places"}),
+        "Kinked": ("one other", {"shows": "self program places"}),
+    },
 }
+
+# The classes whose fields are lists, which are copied.
+OF_LISTS = ("Picture", "Flat", "Kinked")
+
+ERRORS = "BadNumber BadProgram BadPlaces BadWays BadStretch BadPicture BadStep Others NoBack Jumpy".split()
 
 
 def taken(act):
@@ -55,10 +80,27 @@ class TestInterface(unittest.TestCase):
                 made = getattr(held, name)
                 self.assertEqual(made.__module__, "bendwright." + module)
                 self.assertEqual(taken(made), wanted)
-                handed = {field: [(at, 1)] if name == "Picture" else (at, 1) for at, field in enumerate(wanted.split())}
-                self.assertEqual(vars(made(**handed)), handed)
+                handed = {field: [(at, 1)] if name in OF_LISTS else (at, 1) for at, field in enumerate(wanted.split())}
+                told = made(**handed)
+                self.assertEqual(vars(told), handed)
+                for field, value in handed.items():
+                    self.assertFalse(isinstance(value, list) and getattr(told, field) is value)
                 for method, arguments in methods.items():
                     self.assertEqual(taken(vars(made)[method]), arguments)
+
+    def test_all_answers_stand_straight_under_answer(self):
+        answer = importlib.import_module("bendwright.mixing").Answer
+        for module, classes in CLASSES.items():
+            held = importlib.import_module("bendwright." + module)
+            for name in classes:
+                wanted = (object,) if name in ("Side", "Picture", "Answer") else (answer,)
+                self.assertEqual(getattr(held, name).__bases__, wanted)
+
+    def test_all_errors_stand_straight_under_one(self):
+        errors = importlib.import_module("bendwright.errors")
+        self.assertEqual(errors.BendError.__bases__, (ValueError,))
+        for name in ERRORS:
+            self.assertEqual(getattr(errors, name).__bases__, (errors.BendError,))
 
 
 if __name__ == "__main__":
