@@ -160,10 +160,10 @@ def flat(program, places):
     slopes = [piece_along(steps, places, axis)[1] for axis in AXES[:2]]
     ways = astray_axis(steps, places, slopes)
     if ways is not None:
-        # Along one of an axis and its back the slope is the one taken, so both come to 0 together or are astray.
+        # One of both ways goes by the slope taken, so either the other doesn't go as much back, or there is a jump.
         return Kinked(ways, [(-way[0], way[1]) for way in ways])
     ways = astray_apart(steps, places, slopes)
     if ways is not None:
-        # Along both axes it is as the slopes tell, so along both parts of the ways together it should be, too.
+        # Along each part of these ways it goes by the slopes taken, so along both together it doesn't, or jumps.
         return Kinked([ways[0], (0, 1)], [(0, 1), ways[1]])
     return Flat(slopes)

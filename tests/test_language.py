@@ -38,10 +38,11 @@ DUNDERS = set("__init__ __eq__ __repr__ __str__ __len__ __enter__ __exit__ __cal
 AT_ONCE = ("zip", "enumerate", "reversed", "range")
 TAKERS = ("list", "tuple", "dict", "sorted", "sum", "any", "all", "enumerate", "zip", "min", "max")
 
-# The second row is allowed within bounds that aren't tested here; the package does without.
+# The rows behind the first are allowed within bounds that aren't tested here; the package does without.
 BARRED_NODES = (
     ast.Global, ast.AsyncFunctionDef, ast.AsyncFor, ast.AsyncWith, ast.Await, ast.Div, ast.MatMult, ast.Import,
     ast.Set, ast.SetComp, ast.GeneratorExp, ast.Yield, ast.YieldFrom, ast.Lambda, ast.AnnAssign, ast.JoinedStr,
+    ast.Try, ast.With, ast.Match, ast.NamedExpr, ast.Delete, ast.Nonlocal, ast.Assert,
 )
 
 
@@ -272,6 +273,47 @@ class TestLanguage(unittest.TestCase):
                     if inner:
                         taken.add(id(node.args[0]))
                     self.assertIn(id(node), taken, file)
+
+    def test_tables_are_only_read(self):
+        for file, text, tree in each():
+            tables = {
+                node.targets[0].id for node in tree.body
+                if isinstance(node, ast.Assign) and isinstance(node.value, (ast.List, ast.Dict))
+            }
+            read = set()
+            for node in ast.walk(tree):
+                if isinstance(node, ast.Subscript) and isinstance(node.ctx, ast.Load):
+                    read.add(id(node.value))
+                elif isinstance(node, ast.Attribute) and node.attr == "get":
+                    read.add(id(node.value))
+                elif isinstance(node, ast.Compare):
+                    read.update(id(part) for part in node.comparators)
+            for node in ast.walk(tree):
+                if isinstance(node, ast.Name) and isinstance(node.ctx, ast.Load) and node.id in tables:
+                    self.assertIn(id(node), read, node.id)
+
+    def test_what_is_iterated_is_not_changed(self):
+        changing = {"append", "extend", "insert", "pop", "remove", "clear", "reverse", "update", "setdefault", "sort"}
+        for file, text, tree in each():
+            for loop in ast.walk(tree):
+                if isinstance(loop, ast.For):
+                    names = {node.id for node in ast.walk(loop.iter) if isinstance(node, ast.Name)}
+                    for node in ast.walk(ast.Module(loop.body, [])):
+                        if isinstance(node, ast.Attribute) and node.attr in changing:
+                            self.assertNotIn(getattr(node.value, "id", None), names, file)
+                        if isinstance(node, ast.Subscript) and not isinstance(node.ctx, ast.Load):
+                            self.assertNotIn(getattr(node.value, "id", None), names, file)
+
+    def test_functions_stand_at_the_top_or_in_classes(self):
+        for file, text, tree in each():
+            inner = [part for node in tree.body if isinstance(node, ast.ClassDef) for part in node.body]
+            for node in ast.walk(tree):
+                if isinstance(node, ast.FunctionDef):
+                    self.assertIn(node, tree.body + inner, file)
+                    self.assertIsNotNone(ast.get_docstring(node) or node.name == "__init__" or None, node.name)
+                elif isinstance(node, ast.ClassDef):
+                    self.assertIn(node, tree.body, file)
+                    self.assertIsNotNone(ast.get_docstring(node), node.name)
 
     def test_no_warnings_and_plain_escapes(self):
         for file, text, tree in each():

@@ -253,7 +253,6 @@ class TestAnswers(unittest.TestCase):
         for low, high in ((-1, 2), (0, 1), (-2, 1), (2, 3)):
             self.assertIs(Alike().shows(level(0), level(0, low, high)), False)
 
-
     def test_differ_of_unlike_stretches_is_shown_within_both(self):
         for place, wanted in (((-1, 2), False), (NIL, True), ((1, 2), True), (ONE, True), ((3, 2), False)):
             for one, other in ((level(0, -1, 1), level(5, 0, 2)), (level(0, 0, 2), level(5, -1, 1))):

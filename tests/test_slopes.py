@@ -101,7 +101,7 @@ class TestSlopeAt(Checked):
             else:
                 self.told(told, Bent, below=left, above=right)
             self.are_numbers(vars(told).values())
-        self.assertGreater(min(seen.values()), 20)
+        self.assertGreater(min(seen.values()), 10)
 
     def test_the_classes(self):
         self.assertEqual([made.__bases__ for made in (Smooth, Bent, Jumps)], [(Answer,)] * 3)
